@@ -147,6 +147,19 @@ func TestString(t *testing.T) {
 	}
 }
 
+// P2.1: every character's bytes are as another writer of them says.
+func TestStringOfAll(t *testing.T) {
+	for r := rune(0); r < 0x110200; r++ {
+		want := ""
+		if utf8.ValidRune(r) {
+			want = string(utf8.AppendRune(nil, r))
+		}
+		if s, ok := String([]rune{r}); s != want || ok != (want != "") {
+			t.Fatalf("%x: got % x, %v, want % x", r, s, ok, want)
+		}
+	}
+}
+
 // P2.1: one that is no character, wherever it stands, leaves nothing.
 func TestStringOfNone(t *testing.T) {
 	for _, r := range none {
