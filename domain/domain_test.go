@@ -4,9 +4,11 @@ import (
 	"slices"
 	"strings"
 	"testing"
+	"unsafe"
 
 	"pillarbox/api"
 	"pillarbox/fold"
+	"pillarbox/rows"
 	"pillarbox/ucd"
 	"pillarbox/utf"
 )
@@ -233,6 +235,26 @@ func TestLabelsNew(t *testing.T) {
 	}
 }
 
+// W6: no text that is told shares memory with the domain.
+func TestTextsNew(t *testing.T) {
+	u := ucd.New()
+	for _, c := range right {
+		bytes := []byte(c.s)
+		// A string that is made of the bytes themselves, so that it shows when they change.
+		s := unsafe.String(unsafe.SliceData(bytes), len(bytes))
+		ascii, _ := ToASCII(u, s)
+		wide, _ := ToUnicode(u, s)
+		down, _ := Down(u, s)
+		for at := range bytes {
+			bytes[at] = 'X'
+		}
+		want, _ := Down(u, c.s)
+		if ascii != c.ascii || wide != c.wide || down != want {
+			t.Errorf("%+q: got %q, %+q, %q behind a change of it", c.s, ascii, wide, down)
+		}
+	}
+}
+
 // P9.2: both forms of what is right.
 func TestFormsOfRight(t *testing.T) {
 	u := ucd.New()
@@ -454,21 +476,6 @@ func checkAll(t *testing.T, u ucd.Table, s string) {
 	}
 }
 
-// eachText hands on every text of up to n pieces.
-func eachText(pieces []string, n int, do func(string)) {
-	var grow func(string, int)
-	grow = func(s string, left int) {
-		do(s)
-		if left == 0 {
-			return
-		}
-		for _, p := range pieces {
-			grow(s+p, left-1)
-		}
-	}
-	grow("", n)
-}
-
 // P9.4: of all that is right, and at each limit.
 func TestFollows(t *testing.T) {
 	u := ucd.New()
@@ -484,8 +491,8 @@ func TestFollows(t *testing.T) {
 // P9.1 to P9.4: all short texts of what labels and dots are made of.
 func TestShortTexts(t *testing.T) {
 	u := ucd.New()
-	eachText([]string{"a", "A", "-", "_", ".", "\u3002", "\uff0e", "\u00e4", "\u0308", "\u05d0", "xn--", "4ca", "\xff"}, 4, func(s string) { checkAll(t, u, s) })
-	eachText([]string{"a", ".", "-", "\u3002", "\u00c4"}, 6, func(s string) { checkAll(t, u, s) })
+	rows.Texts([]string{"a", "A", "-", "_", ".", "\u3002", "\uff0e", "\u00e4", "\u0308", "\u05d0", "xn--", "4ca", "\xff"}, 4, func(s string) { checkAll(t, u, s) })
+	rows.Texts([]string{"a", ".", "-", "\u3002", "\u00c4"}, 6, func(s string) { checkAll(t, u, s) })
 }
 
 // W1: long texts come to an end, and soon.

@@ -9,6 +9,7 @@ import (
 	"pillarbox/api"
 	"pillarbox/norm"
 	"pillarbox/puny"
+	"pillarbox/rows"
 	"pillarbox/ucd"
 	"pillarbox/utf"
 )
@@ -238,22 +239,7 @@ func TestPlainOfAll(t *testing.T) {
 		}
 		check("a" + c + "b-c")
 	}
-	eachText([]string{"-", "a", "_"}, 7, check)
-}
-
-// eachText hands on every text of up to n pieces.
-func eachText(pieces []string, n int, do func(string)) {
-	var grow func(string, int)
-	grow = func(s string, left int) {
-		do(s)
-		if left == 0 {
-			return
-		}
-		for _, p := range pieces {
-			grow(s+p, left-1)
-		}
-	}
-	grow("", n)
+	rows.Texts([]string{"-", "a", "_"}, 7, check)
 }
 
 // P8.3: what is right.
@@ -409,7 +395,7 @@ func TestFar(t *testing.T) {
 
 // P8.4: the last of its errors can be told of nothing short: what is decoded is encoded as it was.
 func TestWrittenOneWay(t *testing.T) {
-	eachText(strings.Split("abcdefghijklmnopqrstuvwxyz0123456789-_", ""), 3, func(s string) {
+	rows.Texts(strings.Split("abcdefghijklmnopqrstuvwxyz0123456789-_", ""), 3, func(s string) {
 		l, is := puny.Decode(s)
 		if !is {
 			return
@@ -495,15 +481,15 @@ func TestFollows(t *testing.T) {
 func TestShortTexts(t *testing.T) {
 	s := newSlow()
 	mixed := []string{"a", "A", "l", "-", "_", "1", "\xff", "\u00b2", "\u00b7", "\u00c4", "\u00e4", "\u0301", "\u0308", "\u0323", "\u0375", "\u03b1", "\u05d0", "\u05f3", "\u0627", "\u0628", "\u0661", "\u06f1", "\u0915", "\u094d", "\u0958", "\u200c", "\u200d", "\u212a", "\u30fb", "\u30ab", "\u3099", "\u4e00", "\uac00", "\ufb01", "\uff0d", "\uff21", "\U00010400"}
-	eachText(mixed, 3, func(text string) { checkAll(t, s, text) })
-	eachText([]string{"a", "-", "\u00e4", "\u0301", "\u05d0", "\uff0d"}, 6, func(text string) { checkAll(t, s, text) })
+	rows.Texts(mixed, 3, func(text string) { checkAll(t, s, text) })
+	rows.Texts([]string{"a", "-", "\u00e4", "\u0301", "\u05d0", "\uff0d"}, 6, func(text string) { checkAll(t, s, text) })
 }
 
 // P8.4 to P8.6: all short texts behind the sign.
 func TestShortAce(t *testing.T) {
 	s := newSlow()
-	eachText(strings.Split("abcdkmtvxz0149-_", ""), 4, func(text string) { checkAll(t, s, "xn--"+text) })
-	eachText([]string{"x", "X", "n", "-", "\uff4e", "4", "ca", "\u00e4"}, 5, func(text string) { checkAll(t, s, text) })
+	rows.Texts(strings.Split("abcdkmtvxz0149-_", ""), 4, func(text string) { checkAll(t, s, "xn--"+text) })
+	rows.Texts([]string{"x", "X", "n", "-", "\uff4e", "4", "ca", "\u00e4"}, 5, func(text string) { checkAll(t, s, text) })
 }
 
 // isDull tells who stands amid many that are all alike.

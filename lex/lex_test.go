@@ -8,6 +8,7 @@ import (
 	"unsafe"
 
 	"pillarbox/api"
+	"pillarbox/rows"
 )
 
 // piece is a token as it is written, and what it says.
@@ -97,24 +98,6 @@ func wantSource(t *testing.T, k api.Token, want string) {
 	t.Helper()
 	if got := Source(k); got != want {
 		t.Errorf("Source of %d, %.99q: got %.99q, want %.99q", k.Kind, k.Text, got, want)
-	}
-}
-
-// eachText hands over all texts of up to n of some parts, the empty one first.
-func eachText(parts []string, n int, take func(string)) {
-	row := []string{""}
-	for ; n >= 0; n-- {
-		var longer []string
-		for _, s := range row {
-			take(s)
-			if n == 0 {
-				continue
-			}
-			for _, p := range parts {
-				longer = append(longer, s+p)
-			}
-		}
-		row = longer
 	}
 }
 
@@ -636,6 +619,6 @@ func TestShortTexts(t *testing.T) {
 		{[]string{"a", ".", "\u00e4", "@"}, 6},
 		{[]string{strings.Repeat("(", 16), strings.Repeat(")", 16), "(", ")", `\`}, 5},
 	} {
-		eachText(c.parts, c.n, func(s string) { checkAll(t, s) })
+		rows.Texts(c.parts, c.n, func(s string) { checkAll(t, s) })
 	}
 }

@@ -8,6 +8,7 @@ import (
 	"pillarbox/api"
 	"pillarbox/fold"
 	"pillarbox/norm"
+	"pillarbox/rows"
 	"pillarbox/ucd"
 	"pillarbox/utf"
 )
@@ -213,21 +214,6 @@ func TestNameOfAll(t *testing.T) {
 	}
 }
 
-// eachText hands over all texts of up to n pieces.
-func eachText(pieces []string, n int, take func(string)) {
-	var grow func(s string, left int)
-	grow = func(s string, left int) {
-		take(s)
-		if left == 0 {
-			return
-		}
-		for _, p := range pieces {
-			grow(s+p, left-1)
-		}
-	}
-	grow("", n)
-}
-
 // P10.2, P10.3: all short texts of what the errors are about.
 func TestShortTexts(t *testing.T) {
 	s := newSlow()
@@ -239,8 +225,8 @@ func TestShortTexts(t *testing.T) {
 			t.Errorf("Class of %+q: got %d", text, got)
 		}
 	}
-	eachText(pieces, 3, check)
-	eachText([]string{"a", "1", "-", " ", "\u0308", "\u05d0", "\u0661", "\u06f1", "\u0628", "\u200c"}, 5, check)
+	rows.Texts(pieces, 3, check)
+	rows.Texts([]string{"a", "1", "-", " ", "\u0308", "\u05d0", "\u0661", "\u06f1", "\u0628", "\u200c"}, 5, check)
 }
 
 // P10.3: names that are the same but for great letters, normal forms and width.
@@ -291,7 +277,7 @@ func TestAlikeOfWrong(t *testing.T) {
 func TestAlikeOfShortTexts(t *testing.T) {
 	s := newSlow()
 	var all []string
-	eachText([]string{"a", "A", "\uff21", "\u0308", "\u00c4", " ", "\u05d0", "k", "\u212a", "\xff"}, 2, func(text string) { all = append(all, text) })
+	rows.Texts([]string{"a", "A", "\uff21", "\u0308", "\u00c4", " ", "\u05d0", "k", "\u212a", "\xff"}, 2, func(text string) { all = append(all, text) })
 	for _, one := range all {
 		for _, other := range all {
 			if got := Alike(s.u, one, other); got != s.alike(one, other) {
@@ -331,7 +317,7 @@ func TestFollows(t *testing.T) {
 			check(s)
 		}
 	}
-	eachText([]string{"a", "A", "\uff21", "\u0308", "\u0323", "\u00c4", "\u212b", "\u0958", " ", "\u05d0", "\u00b7", "L", "\u200d", "\u094d", "\xff"}, 4, check)
+	rows.Texts([]string{"a", "A", "\uff21", "\u0308", "\u0323", "\u00c4", "\u212b", "\u0958", " ", "\u05d0", "\u00b7", "L", "\u200d", "\u094d", "\xff"}, 4, check)
 }
 
 // W2: of the same arguments the same is told, and by another table.
